@@ -1,0 +1,1 @@
+"""Pulseshare: shares told by pulses."""
