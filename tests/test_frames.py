@@ -5,37 +5,13 @@ import unittest
 from pulseshare import frames
 from pulseshare.errors import BadFrame, BadShare, BadWidth
 from pulseshare.frames import even, exact, is_even, spans, turn_of
-from tests.helper import FAR, Case
-
-BAD_SHARES = (
-    (0, 0), (0, 1), (-1, 0), (-1, -1), (-64, 3), (65, 0), (65, 3), (65, 65), (66, 66), (128, 64),
-    (1, -1), (1, 2), (8, -1), (8, -3), (8, 9), (8, 64), (64, -1), (64, 65), (63, 64),
-)
-
-BAD_FRAMES = (
-    [], [0] * 65, [1] * 65, [0, 1] * 33, [2], [-1], [0, 1, 2], [2, 0, 1], [0, -1, 1], [0, 3, 1],
-    [0] * 63 + [2], [1] * 63 + [-1], [2] + [1] * 63, [0, 1] * 40, [2] * 65,
-)
-
-
-def all_frames(most):
-    """Every frame of up to so many beats."""
-    for beats in range(1, most + 1):
-        for beat_row in itertools.product((0, 1), repeat=beats):
-            yield list(beat_row)
+from tests.helper import BAD_FRAMES, BAD_SHARES, FAR, Case, all_frames, told_even
 
 
 def counted(frame, width):
     """How many are on in each window, beat for beat."""
     beats = len(frame)
     return [sum(frame[(at + k) % beats] for k in range(width)) for at in range(beats)]
-
-
-def told_even(beats, pulses, turn):
-    """The frame of point 3, in the document's words."""
-    return [
-        int((k + 1 + turn) * pulses // beats > (k + turn) * pulses // beats) for k in range(beats)
-    ]
 
 
 def even_by_windows(frame):

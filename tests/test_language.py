@@ -16,7 +16,8 @@ def package_files():
 class LanguageTest(unittest.TestCase):
     def test_there_are_files(self):
         names = [path.name for path in package_files()]
-        for name in ("__init__.py", "errors.py", "frames.py", "streams.py"):
+        wanted = ("errors.py", "frames.py", "notes.py", "rooms.py", "runs.py", "streams.py")
+        for name in ("__init__.py",) + wanted:
             self.assertIn(name, names)
 
     def test_sizes_and_signs(self):
